@@ -69,3 +69,11 @@ def turned(root, n):
         # Both roots less n have one sign, so dividing 1 by them turns their order about.
         side = 1 - side
     return root_of(at_n, 2 * a * n + b, a, side)
+
+
+def led_to(number, n):
+    # 1 divided by the number less n, for n no greater than the number; None where nothing is left to divide by.
+    if len(number) == 4:
+        return turned(number, n)
+    rest = number[0] - n * number[1]
+    return None if rest == 0 else (number[1], rest)

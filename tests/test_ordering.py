@@ -2,12 +2,14 @@
 
 import inspect
 import itertools
-import math
 import random
 import unittest
 from fractions import Fraction
 
-from by_hand import close_value, has_roots, heart, is_greater, root_by_chance, root_by_hand, small_roots
+from by_hand import (
+    close_value, fraction_by_chance, has_roots, heart, order_by_hand, pair, root_beside, root_by_chance, root_by_hand,
+    side_of, small_fractions, small_roots,
+)
 from rootrow.fractions import lowest
 from rootrow.ordering import compare
 from rootrow.roots import other_root
@@ -15,58 +17,8 @@ from rootrow.roots import other_root
 FAR = 10 ** 45
 
 
-def fraction_by_chance(chance, bound):
-    return lowest(chance.randint(-bound, bound), chance.randint(1, bound))
-
-
-def pair(value):
-    return (value.numerator, value.denominator)
-
-
-def side_of(number, value):
-    # -1, 0 or 1 as the number is less than the value, the same or greater.
-    if len(number) == 2:
-        left = number[0] * value.denominator - value.numerator * number[1]
-        return (left > 0) - (left < 0)
-    return 1 if is_greater(number, value) else -1
-
-
-def bound_of(number):
-    return Fraction(1 + sum([abs(part) for part in number]))
-
-
-def order_by_hand(one, other):
-    if one == other:
-        return 0
-    # Halve until a value lies between both, or is one of them.
-    high = max(bound_of(one), bound_of(other))
-    low = -high
-    while True:
-        value = (low + high) / 2
-        sides = (side_of(one, value), side_of(other, value))
-        if sides[0] != sides[1]:
-            return 1 if sides[0] > sides[1] else -1
-        if sides[0] == 1:
-            low = value
-        else:
-            high = value
-
-
 def small_numbers(bound):
-    places = range(-bound, bound + 1)
-    fractions = [
-        (upper, lower) for upper in places for lower in range(1, bound + 1) if math.gcd(upper, lower) == 1
-    ]
-    return fractions + small_roots(bound)
-
-
-def root_beside(value, spread, n, side):
-    # The value and, above or below it, the root of n divided by the spread.
-    upper, lower = pair(value)
-    square = spread * spread
-    return root_by_hand(
-        lower * lower * square, -2 * upper * lower * square, upper * upper * square - n * lower * lower, side
-    )
+    return small_fractions(bound) + small_roots(bound)
 
 
 class Compare(unittest.TestCase):
